@@ -396,7 +396,7 @@ func TestPrint(t *testing.T) {
 	}
 }
 
-// P11.2, P11.3, P11.4, P5: files that were published, with their sums as they were.
+// P11.2, P11.3, P11.4, P5: the published entries, with other remarks: the second sum is as its file has it; the first one was worked out by another program, and has a word without its 0 ahead.
 func TestPublished(t *testing.T) {
 	for _, c := range []struct {
 		updated, expires int
